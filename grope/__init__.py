@@ -1,0 +1,1 @@
+"""Grope: a hand that does errands without seeing."""
