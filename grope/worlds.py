@@ -50,6 +50,14 @@ def lid_fits(room, place, lid):
     return lid == "locked" and room.key_of(place) is not None
 
 
+def heap_in(room, world, place):
+    return world[1][room.places().index(place)]
+
+
+def lid_on(room, world, place):
+    return world[2][room.places().index(place)]
+
+
 def changes(one, other):
     hands = 0 if one[0] == other[0] else 1
     return hands + count_unlike(one[1], other[1]) + count_unlike(one[2], other[2])

@@ -1,15 +1,11 @@
 """Points 7 to 9: worlds, their texts, and the changes between them; points 2 and 3 as far as they speak of these."""
 
-import itertools
 import unittest
 
 from grope.errors import NoWorld
 from grope.rooms import Room
 from grope.worlds import changes, read_world, show_world
-
-ROOM = Room([
-    "place floor", "box bin", "box chest key", "thing ball round", "thing key flat", "thing coin flat",
-])
+from helper import ROOM, all_worlds
 
 # Each world beside its text, written by hand.
 SHOWN = [
@@ -34,34 +30,6 @@ SHOWN = [
         "hand coin; floor open ball; bin shut key; chest open",
     ),
 ]
-
-
-def all_worlds(room):
-    """Every world of a room, made straight from point 7."""
-    places = room.places()
-    things = room.things()
-    lids = []
-    for place in places:
-        words = ["open"]
-        if room.lidded(place):
-            words.append("shut")
-        if room.key_of(place) is not None:
-            words.append("locked")
-        lids.append(words)
-    worlds = []
-    for hand in [None] + things:
-        for heaps in all_heaps([thing for thing in things if thing != hand], len(places)):
-            for lid in itertools.product(*lids):
-                worlds.append((hand, heaps, lid))
-    return worlds
-
-
-def all_heaps(things, many):
-    found = set()
-    for order in itertools.permutations(things):
-        for spots in itertools.product(range(many), repeat=len(things)):
-            found.add(tuple(tuple(t for t, s in zip(order, spots) if s == k) for k in range(many)))
-    return sorted(found)
 
 
 class WorldsShown(unittest.TestCase):
