@@ -1,7 +1,8 @@
-"""What the tests of worlds, deeds, looks and facts share: a room, and every world of a room."""
+"""What the tests share: a room, every world of a room, and a chart beside the tables that it is made of."""
 
 import itertools
 
+from grope.charts import Chart
 from grope.rooms import Room
 
 ROOM = Room([
@@ -23,6 +24,21 @@ SMALL = [
     Room(["thing v s", "place a", "place ab", "box b u", "thing u v"]),
     Room(["place b", "box a u", "box ab v", "thing u s", "thing v s"]),
 ]
+
+# A chart of five worlds; names and answers stand in no wise order.
+DEEDS = [
+    ("walk", 3, [[1], [2], [3], [4], []]),
+    ("rest", 1, [[0], [1], [2], [3], [4]]),
+    ("fall", 10, [[0, 1], [], [0, 2, 4], [], [0, 1, 2, 3, 4]]),
+    ("dive", 4, [[], [], [], [], []]),
+]
+LOOKS = [
+    ("peek", 2, ["red", "blue", "red", None, "blue"]),
+    ("ask", 7, [None, None, None, None, None]),
+    ("hear", 1, ["hum", "hum", "hum", "hum", "hum"]),
+    ("count", 5, ["4", "10", "2", "0", None]),
+]
+CHART = Chart(5, DEEDS, LOOKS)
 
 
 def all_worlds(room):
@@ -51,3 +67,16 @@ def all_heaps(things, many):
         for spots in itertools.product(range(many), repeat=len(things)):
             found.add(tuple(tuple(t for t, s in zip(order, spots) if s == k) for k in range(many)))
     return sorted(found)
+
+
+def chart_told(chart):
+    """All that a chart tells, in plain values."""
+    worlds = range(chart.size())
+    deeds = [
+        (name, chart.price_of(name), [chart.outs(name, world) for world in worlds]) for name in chart.deed_names()
+    ]
+    looks = [
+        (name, chart.price_of(name), [chart.answer_of(name, world) for world in worlds])
+        for name in chart.look_names()
+    ]
+    return (chart.size(), deeds, looks)

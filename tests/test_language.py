@@ -36,6 +36,13 @@ NOWHERE = re.compile(
     r"|NamedTuple|TypedDict|TYPE_CHECKING|abstractmethod)\b|dataclass|overload|contextmanager"
 )
 NOT_USED = {"register", "mro", "elements", "open", "input", "version_info", "with_traceback", "add_note", "format"}
+# L22, L23
+WALKED = {"zip", "enumerate", "reversed", "range", "items", "keys", "values"}
+WALKERS = {"list", "tuple", "dict", "sorted", "sum", "any", "all", "enumerate", "zip"}
+KEYWORDS = {
+    "sorted": {"key", "reverse"}, "min": {"key", "default"}, "max": {"key", "default"}, "sum": {"start"},
+    "enumerate": {"start"}, "zip": {"strict"},
+}
 
 
 def own_methods(trees):
@@ -161,9 +168,77 @@ def faults_of_top(tree):
     return faults
 
 
+def called(node):
+    """The name of the function or method that is called here, or None."""
+    if not isinstance(node, ast.Call):
+        return None
+    return node.func.id if isinstance(node.func, ast.Name) else node.func.attr
+
+
+def is_walked_at_once(node, above):
+    if isinstance(above, (ast.For, ast.comprehension)):
+        return above.iter is node
+    if isinstance(above, ast.Call) and isinstance(above.func, ast.Name) and above.args[:1] == [node]:
+        return above.func.id in WALKERS or (above.func.id in ("min", "max") and len(above.args) == 1)
+    return called(above) == "join" and isinstance(above.func.value, ast.Constant)
+
+
+def is_set_on_the_spot(node, above):
+    if isinstance(above, ast.Compare):
+        return all(isinstance(op, (ast.In, ast.NotIn, ast.Eq, ast.NotEq)) for op in above.ops)
+    return called(above) in ("sorted", "len") and above.args == [node] and not above.keywords
+
+
+def faults_of_places(tree):
+    """What may stand only in some places: walks, sets, Python's own names, keywords."""
+    above = {below: node for node in ast.walk(tree) for below in ast.iter_child_nodes(node)}
+    faults = []
+    for node in ast.walk(tree):
+        name = called(node)
+        own = name is not None and isinstance(node.func, ast.Name)
+        if name in WALKED and not is_walked_at_once(node, above[node]):
+            faults.append(f"L23: {name} is not walked on the spot")
+        if isinstance(node, ast.Set) or (own and name in ("set", "frozenset")):
+            outer = node
+            while isinstance(above[outer], ast.BinOp):
+                outer = above[outer]
+            if not is_set_on_the_spot(outer, above[outer]):
+                faults.append("L24: a set that is kept or walked")
+        if own and name in BUILTINS and not {word.arg for word in node.keywords} <= KEYWORDS.get(name, set()):
+            faults.append(f"L22: a keyword at {name}")
+        if isinstance(node, ast.Name) and node.id in BUILTINS and not is_placed(node, above):
+            faults.append(f"L22: {node.id} is not called")
+    return faults
+
+
+def is_placed(node, above):
+    outer = above[node]
+    if isinstance(outer, ast.Tuple):
+        node, outer = outer, above[outer]
+    if isinstance(outer, ast.Call):
+        return outer.func is node or (called(outer) == "isinstance" and outer.args[1] is node)
+    return isinstance(outer, (ast.ClassDef, ast.ExceptHandler, ast.Raise, ast.keyword))
+
+
+def faults_of_locals(tree):
+    tops = [item.name for item in tree.body if isinstance(item, ast.ClassDef)]
+    for item in tree.body:
+        if isinstance(item, ast.ImportFrom):
+            tops.extend(name.name for name in item.names)
+    faults = []
+    for item in tree.body:
+        if isinstance(item, (ast.FunctionDef, ast.ClassDef)):
+            for node in ast.walk(item):
+                stored = isinstance(node, ast.Name) and isinstance(node.ctx, ast.Store)
+                name = node.arg if isinstance(node, ast.arg) else node.id if stored else None
+                if name in tops:
+                    faults.append(f"L15: the local {name} is called like a class or an import")
+    return faults
+
+
 def faults_of(source, methods=frozenset()):
     tree = ast.parse(source)
-    faults = faults_of_text(source) + faults_of_top(tree)
+    faults = faults_of_text(source) + faults_of_top(tree) + faults_of_places(tree) + faults_of_locals(tree)
     for node in ast.walk(tree):
         faults.extend(faults_of_node(node, methods))
     return faults
@@ -214,7 +289,16 @@ class Package(unittest.TestCase):
 
 class TheCheckItself(unittest.TestCase):
     def test_good_code(self):
-        self.assertEqual(faults_of('"""Words."""\n\nKEYS = ("a", "b")\n\n\ndef told(key):\n    return key in KEYS\n'), [])
+        for source in [
+            '"""Words."""\n\nKEYS = ("a", "b")\n\n\ndef told(key):\n    return key in KEYS\n',
+            "def f(a):\n    return [k for k in range(a) if k in set(a)]\n",
+            "def f(a):\n    return sorted(set(a) - set([1])) == list(zip(a, a))\n",
+            "def f(a):\n    return sorted(a.items(), key=len, reverse=True)\n",
+            "def f(a):\n    return isinstance(a, (int, str)) or isinstance(a, list) or max(range(a), default=1)\n",
+            "def f(a):\n    try:\n        return a[0]\n    except IndexError:\n        raise ValueError('a')\n",
+        ]:
+            with self.subTest(source=source):
+                self.assertEqual(faults_of(source), [])
 
     def test_bad_code(self):
         for source in [
@@ -246,6 +330,21 @@ class TheCheckItself(unittest.TestCase):
             "def f(a):\n    return [k for j in a for k in j]\n",
             "def f(a):\n    for k in a:\n        pass\n    else:\n        pass\n",
             "class A:\n    b = 1\n",
+            "def f(a):\n    b = range(a)\n    return b\n",
+            "def f(a):\n    return zip(a, a)\n",
+            "def f(a):\n    return list(zip(a, enumerate(a)))\n",
+            "def f(a):\n    return a.items()\n",
+            "def f(a):\n    return max(range(a), range(3))\n",
+            "def f(a):\n    b = set(a)\n    return b\n",
+            "def f(a):\n    return [k for k in set(a)]\n",
+            "def f(a):\n    return list(set(a))\n",
+            "def f(a):\n    return set(a) - set([1])\n",
+            "def f(a):\n    return sorted(set(a), key=len)\n",
+            "def f(a):\n    b = len\n    return b(a)\n",
+            "def f(a):\n    return [len, a]\n",
+            "def f(a):\n    return int(a, base=2)\n",
+            "class A:\n    pass\n\n\ndef f(A):\n    return A\n",
+            "from grope.sets import within\n\n\ndef f(a):\n    within = 1\n    return within\n",
             "def f(a):\n" + "    a += 1\n" * 40,
             "A = 1\n" + "# a\n" * 400,
             "# " + "a" * 120 + "\n",
