@@ -121,8 +121,7 @@ class Chart:
 
     # These three are no part of the interface: they tell whole sets to whoever does steps in sets of worlds.
     def out_sets(self, name):
-        if name not in self.told_outs:
-            raise NoName(f"no deed has the name {name!r}")
+        self.check_deed(name)
         return self.told_outs[name]
 
     def answer_sets(self, name):
@@ -132,6 +131,10 @@ class Chart:
     def doable(self, name):
         self.check_step(name)
         return self.told_doable[name]
+
+    def check_deed(self, name):
+        if name not in self.told_outs:
+            raise NoName(f"no deed has the name {name!r}")
 
     def check_look(self, name):
         if name not in self.told_answers:

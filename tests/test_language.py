@@ -36,6 +36,8 @@ NOWHERE = re.compile(
     r"|NamedTuple|TypedDict|TYPE_CHECKING|abstractmethod)\b|dataclass|overload|contextmanager"
 )
 NOT_USED = {"register", "mro", "elements", "open", "input", "version_info", "with_traceback", "add_note", "format"}
+# L23
+CHANGING = {"append", "clear", "extend", "insert", "pop", "remove", "reverse", "setdefault", "update"}
 # L22, L23
 WALKED = {"zip", "enumerate", "reversed", "range", "items", "keys", "values"}
 WALKERS = {"list", "tuple", "dict", "sorted", "sum", "any", "all", "enumerate", "zip"}
@@ -52,6 +54,10 @@ def own_methods(trees):
             if isinstance(node, ast.ClassDef):
                 found.update(item.name for item in node.body if isinstance(item, ast.FunctionDef))
     return found
+
+
+def own_classes(trees):
+    return {node.name for tree in trees for node in ast.walk(tree) if isinstance(node, ast.ClassDef)}
 
 
 def own_values(trees):
@@ -211,6 +217,44 @@ def faults_of_places(tree):
     return faults
 
 
+def walked_things(node):
+    """What a loop walks, as it is written, also through enumerate, zip, reversed and the walks of a dict."""
+    if isinstance(node, ast.Call) and isinstance(node.func, ast.Name) and called(node) in WALKED:
+        return [thing for given in node.args for thing in walked_things(given)]
+    if isinstance(node, ast.Call) and called(node) in WALKED:
+        return walked_things(node.func.value)
+    return [ast.dump(node)] if isinstance(node, (ast.Name, ast.Attribute, ast.Subscript)) else []
+
+
+def changed_things(node):
+    if isinstance(node, ast.Call) and isinstance(node.func, ast.Attribute) and node.func.attr in CHANGING:
+        return [node.func.value]
+    targets = node.targets if isinstance(node, ast.Assign) else []
+    return [target.value for target in targets if isinstance(target, ast.Subscript)]
+
+
+def faults_of_loops(tree):
+    faults = []
+    for loop in ast.walk(tree):
+        if isinstance(loop, ast.For):
+            walked = walked_things(loop.iter)
+            for node in [below for row in loop.body for below in ast.walk(row)]:
+                if any(ast.dump(thing) in walked for thing in changed_things(node)):
+                    faults.append("L23: what a loop walks is changed in it")
+    return faults
+
+
+def faults_of_classes(tree, classes):
+    above = {below: node for node in ast.walk(tree) for below in ast.iter_child_nodes(node)}
+    faults = []
+    for node in ast.walk(tree):
+        if isinstance(node, ast.Name) and node.id in classes and not is_placed(node, above):
+            outer = above[node]
+            if not (isinstance(outer, ast.Attribute) and outer.attr == "__init__"):
+                faults.append(f"L18: the class {node.id} is handed on")
+    return faults
+
+
 def is_placed(node, above):
     outer = above[node]
     if isinstance(outer, ast.Tuple):
@@ -236,9 +280,10 @@ def faults_of_locals(tree):
     return faults
 
 
-def faults_of(source, methods=frozenset()):
+def faults_of(source, methods=frozenset(), classes=frozenset()):
     tree = ast.parse(source)
     faults = faults_of_text(source) + faults_of_top(tree) + faults_of_places(tree) + faults_of_locals(tree)
+    faults += faults_of_loops(tree) + faults_of_classes(tree, classes | own_classes([tree]))
     for node in ast.walk(tree):
         faults.extend(faults_of_node(node, methods))
     return faults
@@ -258,9 +303,10 @@ class Package(unittest.TestCase):
 
     def test_each_file_keeps_to_the_rules(self):
         methods = own_methods(self.trees.values())
+        classes = own_classes(self.trees.values())
         for name, source in self.sources.items():
             with self.subTest(name=name):
-                self.assertEqual(faults_of(source, methods), [])
+                self.assertEqual(faults_of(source, methods, classes), [])
 
     def test_imports_are_drawn_from_where_they_are_defined_and_in_no_ring(self):
         drawn = {}
@@ -296,6 +342,8 @@ class TheCheckItself(unittest.TestCase):
             "def f(a):\n    return sorted(a.items(), key=len, reverse=True)\n",
             "def f(a):\n    return isinstance(a, (int, str)) or isinstance(a, list) or max(range(a), default=1)\n",
             "def f(a):\n    try:\n        return a[0]\n    except IndexError:\n        raise ValueError('a')\n",
+            "class A:\n    pass\n\n\nclass B(A):\n    pass\n\n\ndef f(a):\n    return isinstance(a, A) or f(B())\n",
+            "def f(a, b):\n    for k in a:\n        b.append(k)\n        b[0] = a[0]\n    a.clear()\n",
         ]:
             with self.subTest(source=source):
                 self.assertEqual(faults_of(source), [])
@@ -345,6 +393,13 @@ class TheCheckItself(unittest.TestCase):
             "def f(a):\n    return int(a, base=2)\n",
             "class A:\n    pass\n\n\ndef f(A):\n    return A\n",
             "from grope.sets import within\n\n\ndef f(a):\n    within = 1\n    return within\n",
+            "class A:\n    pass\n\n\ndef f(a):\n    return [A, a]\n",
+            "class A:\n    pass\n\n\ndef f(a):\n    return f(A)\n",
+            "class A:\n    pass\n\n\ndef f(a):\n    A.b = a\n",
+            "def f(a):\n    for k in a:\n        a.append(k)\n",
+            "def f(a):\n    for k, b in enumerate(a):\n        a[k] = b\n",
+            "def f(a):\n    for k, b in a.items():\n        a.pop(k)\n",
+            "def f(a):\n    for k in reversed(a.b):\n        a.b.clear()\n",
             "def f(a):\n" + "    a += 1\n" * 40,
             "A = 1\n" + "# a\n" * 400,
             "# " + "a" * 120 + "\n",

@@ -5,12 +5,15 @@ import unittest
 from grope import errors
 from grope.atlas import Atlas
 from grope.charts import Chart
+from grope.check import does, walked
 from grope.deeds import turns
-from grope.errands import errand_of
+from grope.errands import Errand, errand_of
 from grope.facts import holds, read_errand
 from grope.known import Knower, after, can_do, parts
 from grope.looks import looked
+from grope.plans import Do, Look, Stop, read_plan
 from grope.rooms import Room
+from grope.values import coming, least
 from grope.worlds import read_world
 from helper import CHART, ROOM, WIDE, all_worlds
 
@@ -18,6 +21,11 @@ WORLD = read_world(ROOM, "hand -; floor open ball key; bin shut; chest locked co
 OTHER = read_world(ROOM, "hand key; floor open ball; bin shut; chest locked coin")
 ATLAS = Atlas(ROOM, [WORLD], [("open bin", 1)], [("feel floor", 1)])
 KNOWER = Knower(CHART, 3)
+ERRAND = Errand(CHART, 2, 7)
+# From all its worlds 201 sets come by one step, the whole one among them.
+APART = Errand(Chart(200, [], [("name", 1, [f"{k}" for k in range(200)])]), 0)
+PLANS = [Do("swim", Stop()), Do("peek", Stop()), Look("walk", [("red", Stop())]), Do("rest", Do("swim", Stop()))]
+ASTRAY = [Stop(), Do("fall", Stop()), Do("dive", Stop()), Look("peek", [("blue", Stop())])]
 
 REFUSED = [
     ("NoRoom", lambda: Room(["box bin"])),
@@ -50,8 +58,23 @@ REFUSED = [
     ("Cannot", lambda: parts(CHART, "peek", 8)),
     ("NoStory", lambda: KNOWER.fitting(1)),
     ("NoStory", lambda: KNOWER.story(0, 2)),
+    ("NoPlan", lambda: Look("peek", [])),
+    ("NoPlan", lambda: Look("peek", [("red", Stop()), ("red", Stop())])),
+    ("NoPlan", lambda: read_plan([])),
+    ("NoPlan", lambda: read_plan(["do walk"])),
+    ("NoPlan", lambda: read_plan(["look peek", " case red", "  stop", " case red", "  stop"])),
+    ("NoPlan", lambda: read_plan(["stop "])),
+    ("TooMany", lambda: coming(APART, 2 ** 200 - 1, 1)),
+    ("TooMany", lambda: least(APART, 2 ** 200 - 1, 1)),
 ]
-LANDED = ["NoRoom", "NoWorld", "NoDeed", "NoLook", "NoFact", "NoChart", "NoName", "TooMany", "Cannot", "NoStory"]
+REFUSED += [("NoName", lambda plan=plan: plan.price_by(CHART)) for plan in PLANS]
+REFUSED += [("NoName", lambda plan=plan: walked(ERRAND, 8, plan)) for plan in PLANS]
+REFUSED += [("NoName", lambda plan=plan: does(ERRAND, 8, plan)) for plan in PLANS]
+REFUSED += [("Astray", lambda plan=plan: walked(ERRAND, 1, plan)) for plan in ASTRAY]
+LANDED = [
+    "NoRoom", "NoWorld", "NoDeed", "NoLook", "NoFact", "NoChart", "NoName", "TooMany", "Cannot", "NoStory", "NoPlan",
+    "Astray",
+]
 
 
 class Refusals(unittest.TestCase):
@@ -77,6 +100,17 @@ class Refusals(unittest.TestCase):
                 ask()
         self.assertEqual((KNOWER.time(), KNOWER.known(), KNOWER.fitting(0)), (0, 3, 3))
         self.assertEqual(len(ATLAS.worlds()), 2)
+        self.assertEqual((ERRAND.goal(), ERRAND.keep()), (2, 7))
+        self.assertEqual([plan.depth() for plan in PLANS + ASTRAY], [1, 1, 1, 2, 0, 1, 1, 1])
+
+    def test_the_fields_of_astray(self):
+        told = []
+        for plan in ASTRAY + [Do("walk", Do("walk", Do("walk", Stop())))]:
+            with self.assertRaises(errors.Astray) as taken:
+                walked(ERRAND, 1, plan)
+            error = taken.exception
+            told.append((error.row, error.world, error.why))
+        self.assertEqual(told, [(0, 0, "goal"), (1, 0, "goal"), (0, 0, "cannot"), (0, 0, "answer"), (3, 3, "keep")])
 
 
 if __name__ == "__main__":
